@@ -1,0 +1,1 @@
+"""Rolldie: a die rolled from cell to cell of a floor, and how it can come to lie where."""
