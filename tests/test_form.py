@@ -54,6 +54,22 @@ def bound_names(tree):
             yield node.id
 
 
+def imported_names(tree):
+    return [alias.name for node in tree.body if isinstance(node, ast.ImportFrom) for alias in node.names]
+
+
+def drawn_from(tree):
+    return [node.module.removeprefix("rolldie.") + ".py" for node in tree.body if isinstance(node, ast.ImportFrom)]
+
+
+def top_names(tree):
+    for node in tree.body:
+        if isinstance(node, (ast.FunctionDef, ast.ClassDef)):
+            yield node.name
+        elif isinstance(node, ast.Assign):
+            yield node.targets[0].id
+
+
 class FormTest(unittest.TestCase):
     def test_files(self):
         self.assertIn(PACKAGE / "__init__.py", FILES)
@@ -78,6 +94,38 @@ class FormTest(unittest.TestCase):
                     self.assertEqual(node.level, 0, f"{name}: L2")
                     self.assertRegex(node.module, r"^rolldie\.", f"{name}: L2, L16")
                     self.assertNotIn("*", [alias.name for alias in node.names], f"{name}: L2")
+
+    def test_imports_are_drawn_from_the_file_that_defines_the_name(self):
+        trees = {name: tree for name, text, tree in each_file()}
+        for name, tree in trees.items():
+            for node in tree.body:
+                if isinstance(node, ast.ImportFrom):
+                    defined = list(top_names(trees[node.module.removeprefix("rolldie.") + ".py"]))
+                    for alias in node.names:
+                        self.assertIn(alias.name, defined, f"{name}: L16")
+
+    def test_no_two_files_draw_from_one_another(self):
+        waiting = {name: set(drawn_from(tree)) for name, text, tree in each_file()}
+        while waiting:
+            free = [name for name in waiting if not waiting[name] & set(waiting)]
+            self.assertNotEqual(free, [], "L16")
+            for name in free:
+                del waiting[name]
+
+    def test_each_name_is_bound_once_and_none_like_an_import(self):
+        for name, text, tree in each_file():
+            tops = list(top_names(tree)) + imported_names(tree)
+            self.assertEqual(len(tops), len(set(tops)), f"{name}: L15")
+            for bound in bound_names(tree):
+                self.assertNotIn(bound, imported_names(tree), f"{name}: L15")
+
+    def test_what_a_loop_walks_is_a_name_or_is_walked_on_the_spot(self):
+        for name, text, tree in each_file():
+            for node in ast.walk(tree):
+                if isinstance(node, (ast.Assign, ast.Return)) and isinstance(node.value, ast.Call):
+                    called = node.value.func
+                    self.assertNotIn(getattr(called, "id", ""), ("zip", "enumerate", "reversed", "range"), f"{name}: L23")
+                    self.assertNotIn(getattr(called, "attr", ""), ("items", "keys", "values"), f"{name}: L23")
 
     def test_statements_and_expressions(self):
         for name, text, tree in each_file():

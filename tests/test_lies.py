@@ -5,56 +5,9 @@ import unittest
 
 from rolldie.errors import NoLie, NoRoll
 from rolldie.lies import hand, is_lie, lies, rolled, times
-
-FIRST = (1, 2, 3)
-
-RIGHT = [
-    (1, 2, 3), (1, 3, 5), (1, 4, 2), (1, 5, 4),
-    (2, 1, 4), (2, 3, 1), (2, 4, 6), (2, 6, 3),
-    (3, 1, 2), (3, 2, 6), (3, 5, 1), (3, 6, 5),
-    (4, 1, 5), (4, 2, 1), (4, 5, 6), (4, 6, 2),
-    (5, 1, 3), (5, 3, 6), (5, 4, 1), (5, 6, 4),
-    (6, 2, 4), (6, 3, 2), (6, 4, 5), (6, 5, 3),
-]
-
-EVEN = [
-    (1, 2, 3), (1, 5, 4), (2, 3, 1), (2, 4, 6), (3, 1, 2), (3, 6, 5),
-    (4, 1, 5), (4, 6, 2), (5, 3, 6), (5, 4, 1), (6, 2, 4), (6, 5, 3),
-]
-
-WRONG = {
-    "two numbers of one pair": [(1, 6, 2), (2, 3, 5), (3, 1, 4), (6, 1, 3), (4, 3, 1), (5, 6, 2)],
-    "a number twice": [(1, 1, 2), (2, 3, 2), (4, 5, 5), (6, 6, 6), (1, 1, 1)],
-    "a number on no side": [
-        (0, 2, 3), (1, 0, 3), (1, 2, 0), (7, 2, 3), (1, 7, 3), (1, 2, 7), (0, 0, 0), (7, 7, 7),
-        (-1, 2, 3), (1, -2, 3), (1, 2, -3), (-1, -2, -3), (8, 9, 10), (8, 2, 3), (1, 9, 3), (1, 2, -4),
-        (1000, 2, 3), (1, -1000, 3), (1, 2, 1000), (-1000, -1000, -1000), (1000, 1000, 1000),
-    ],
-    "turned the other way": [(1, 3, 2), (2, 1, 3), (3, 2, 1), (6, 2, 3), (1, 5, 3), (1, 2, 4), (6, 5, 4)],
-}
-
-# Where each side of the die goes when it is rolled: to the key's side comes the side that is named.
-MOVES = {
-    "n": {"north": "top", "top": "south", "south": "bottom", "bottom": "north", "east": "east", "west": "west"},
-    "e": {"east": "top", "top": "west", "west": "bottom", "bottom": "east", "north": "north", "south": "south"},
-    "s": {"south": "top", "top": "north", "north": "bottom", "bottom": "south", "east": "east", "west": "west"},
-    "w": {"west": "top", "top": "east", "east": "bottom", "bottom": "west", "north": "north", "south": "south"},
-}
-
-BACK = {"n": "s", "e": "w", "s": "n", "w": "e"}
+from tests.helper import BACK, EVEN, FIRST, MOVES, OTHER_LETTERS, RIGHT, WRONG, Case, moved_die
 
 ROWS = ["".join(row) for length in range(5) for row in itertools.product("nesw", repeat=length)]
-
-# From the blank to ~, as the document bounds the signs that are handed in.
-OTHER_LETTERS = [sign for sign in map(chr, range(ord(" "), ord("~") + 1)) if sign not in "nesw%"]
-
-
-def moved_die(lie, rolls):
-    top, north, east = lie
-    die = {"top": top, "north": north, "east": east, "bottom": 7 - top, "south": 7 - north, "west": 7 - east}
-    for roll in rolls:
-        die = {side: die[source] for side, source in MOVES[roll].items()}
-    return (die["top"], die["north"], die["east"])
 
 
 def moved_from(start):
@@ -68,13 +21,6 @@ def moved_from(start):
                 seen.add(after)
                 waiting.append(after)
     return seen
-
-
-class Case(unittest.TestCase):
-    def assert_refused(self, refusal, ask, *handed):
-        with self.assertRaises(ValueError) as caught:
-            ask(*handed)
-        self.assertIs(type(caught.exception), refusal)
 
 
 class RightLiesTest(Case):
